@@ -1,0 +1,1 @@
+"""How many each: data models, and all finite databases that keep them."""

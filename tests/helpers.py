@@ -1,0 +1,42 @@
+"""What several tests need."""
+
+import copy
+
+from howmanyeach.manys import Many
+from howmanyeach.ratios import Ratio, Span
+
+# Many digits, so that a detour through floats would be seen.
+SIXTY = 10 ** 59 + 7
+SIXTY_MORE = 7 * 10 ** 59 + 3
+
+
+def strange_values():
+    """Values that are no COUNT, no Many and no string that is the text of a Many."""
+    return [True, False, -1, -SIXTY, "", "1", "a", "near", "word", b"", b"2", None, [], [1], [[2]], (), (1,),
+            (1, 2), {}, {"a": 1}, {1}, object(), int, Span(Ratio(1), True, None)]
+
+
+class Checks:
+    """Checks to be mixed into a TestCase."""
+
+    def raised(self, error, call, *values, **named):
+        """Make a call that has to raise an error of just this class, and return the error."""
+        before = copy.deepcopy([values, named])
+        with self.assertRaises(error) as caught:
+            call(*values, **named)
+        self.assertIs(type(caught.exception), error)
+        for old, new in zip(before[0], values):
+            if isinstance(new, (list, dict)):
+                self.assertEqual(old, new)
+        return caught.exception
+
+    def refused(self, error, value, call, *values, **named):
+        """Make a call that has to raise an error of just this class with this value."""
+        got = self.raised(error, call, *values, **named).value
+        self.assertIs(type(got), type(value))
+        self.assertTrue(got is value or got == value, (got, value))
+
+
+def some_manys():
+    """All Manys with numbers up to 4."""
+    return [Many(least, most) for least in range(5) for most in [*range(least, 5), None]]

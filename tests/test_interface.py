@@ -1,0 +1,63 @@
+"""The names of the interface: each stands in its own file, and has its own parameters."""
+
+import ast
+import pathlib
+import unittest
+
+PACKAGE = pathlib.Path(__file__).parent.parent / "howmanyeach"
+
+# For each file its functions, with their parameters.
+FUNCTIONS = {
+    "values.py": {"is_integer": "value", "is_count": "value", "is_name": "value", "is_end": "value",
+                  "other_end": "end"},
+}
+
+# For each file its classes, with the parameters of their methods.
+CLASSES = {
+    "manys.py": {
+        "Many": {"__init__": "self least most", "least": "self", "most": "self", "just": "number", "read": "text",
+                 "is_within": "self other", "__contains__": "self value", "__and__": "self other",
+                 "__or__": "self other", "__add__": "self other", "__mul__": "self other",
+                 "__rmul__": "self other", "__bool__": "self", "__lt__": "self other", "__le__": "self other",
+                 "__gt__": "self other", "__ge__": "self other", "__eq__": "self other", "__str__": "self",
+                 "__repr__": "self"},
+    },
+    "ratios.py": {
+        "Ratio": {"__init__": "self top bottom", "top": "self", "bottom": "self", "over": "self other",
+                  "is_below": "self other", "is_at_most": "self other", "least_at": "self count",
+                  "most_at": "self count", "__add__": "self other", "__radd__": "self other",
+                  "__mul__": "self other", "__rmul__": "self other", "__eq__": "self other", "__bool__": "self",
+                  "__str__": "self", "__repr__": "self"},
+        "Span": {"__init__": "self low is_had high", "low": "self", "is_had": "self", "high": "self",
+                 "__contains__": "self value", "__eq__": "self other", "__str__": "self", "__repr__": "self"},
+    },
+}
+
+
+def defined_in(body, kind):
+    return {node.name: node for node in body if isinstance(node, kind)}
+
+
+def parameters(function):
+    return " ".join(parameter.arg for parameter in function.args.args)
+
+
+class Interface(unittest.TestCase):
+    def check(self, told, body):
+        functions = defined_in(body, ast.FunctionDef)
+        for name, wanted in told.items():
+            self.assertEqual(parameters(functions[name]), wanted, name)
+
+    def test_functions(self):
+        for file, told in FUNCTIONS.items():
+            self.check(told, ast.parse((PACKAGE / file).read_text()).body)
+
+    def test_classes(self):
+        for file, classes in CLASSES.items():
+            defined = defined_in(ast.parse((PACKAGE / file).read_text()).body, ast.ClassDef)
+            for name, told in classes.items():
+                self.check(told, defined[name].body)
+
+
+if __name__ == "__main__":
+    unittest.main()

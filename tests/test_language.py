@@ -1,0 +1,116 @@
+"""The rules of LANGUAGE.md that can be seen in the files of the package one by one."""
+
+import ast
+import pathlib
+import re
+import unittest
+
+PACKAGE = pathlib.Path(__file__).parent.parent / "howmanyeach"
+LIBRARY = {
+    "heapq": ["heappush", "heappop", "heapify", "heapreplace", "heappushpop"],
+    "math": ["gcd", "lcm", "isqrt", "comb", "perm", "factorial"],
+    "itertools": ["product", "combinations", "permutations", "chain", "accumulate", "pairwise", "islice",
+                  "zip_longest"],
+    "collections": ["defaultdict", "deque"],
+}
+# Words that stand nowhere but in comments and docstrings.
+BARRED = ["typing", "typing_extensions", "enum", "Enum", "IntEnum", "StrEnum", "Flag", "IntFlag", "Generic", "Protocol",
+          "ABC", "ABCMeta", "namedtuple", "NamedTuple", "TypedDict", "TYPE_CHECKING", "abstractmethod", "register",
+          "mro", "elements", "open", "input", "law", "eval", "exec", "globals", "locals", "vars", "compile"]
+BARRED_NODES = (ast.AsyncFunctionDef, ast.AsyncFor, ast.AsyncWith, ast.Await, ast.Div, ast.Import)
+
+
+def sources():
+    return {path.name: path.read_text() for path in sorted(PACKAGE.glob("**/*.py"))}
+
+
+def nodes(text):
+    return list(ast.walk(ast.parse(text)))
+
+
+def docstrings(text):
+    owners = [node for node in nodes(text) if isinstance(node, (ast.Module, ast.ClassDef, ast.FunctionDef))]
+    return [ast.get_docstring(owner, clean=False) for owner in owners]
+
+
+def strings(text):
+    """All strings but the docstrings."""
+    constants = [node.value for node in nodes(text) if isinstance(node, ast.Constant)]
+    kept = docstrings(text)
+    return [worth for worth in constants if isinstance(worth, str) and worth not in kept]
+
+
+def names(text):
+    """All names of variables, parameters, functions, classes, imports, attributes and keywords."""
+    found = []
+    for node in nodes(text):
+        for field in ("id", "arg", "attr", "name"):
+            found.append(getattr(node, field, None))
+    return [name for name in found if isinstance(name, str)]
+
+
+class Files(unittest.TestCase):
+    def test_the_folder_contains_nothing_else(self):
+        for path in PACKAGE.glob("**/*"):
+            if "__pycache__" not in path.parts:
+                self.assertEqual(path.suffix, ".py", path)
+
+    def test_size_and_characters(self):
+        for name, text in sources().items():
+            self.assertLessEqual(len(text.splitlines()), 399, name)
+            for number, line in enumerate(text.splitlines(), 1):
+                self.assertLessEqual(len(line), 120, (name, number))
+                self.assertTrue(all(" " <= sign <= "~" for sign in line), (name, number))
+
+    def test_functions_are_small(self):
+        for name, text in sources().items():
+            for node in nodes(text):
+                if isinstance(node, ast.FunctionDef):
+                    self.assertLessEqual(node.end_lineno - node.lineno + 1, 40, (name, node.name))
+
+
+class Code(unittest.TestCase):
+    def test_imports(self):
+        texts = sources()
+        for name, text in texts.items():
+            for node in nodes(text):
+                if not isinstance(node, ast.ImportFrom):
+                    continue
+                self.assertEqual(node.level, 0, name)
+                for imported in node.names:
+                    self.assertIsNone(imported.asname, name)
+                    self.assertTrue(self.is_found(texts, node.module, imported.name), (name, imported.name))
+
+    def is_found(self, texts, module, name):
+        if module in LIBRARY:
+            return name in LIBRARY[module]
+        package, _, file = module.partition(".")
+        defined = ast.parse(texts[file + ".py"]).body
+        return package == PACKAGE.name and name in [getattr(node, "name", None) for node in defined]
+
+    def test_what_no_file_contains(self):
+        for name, text in sources().items():
+            for node in nodes(text):
+                self.assertNotIsInstance(node, BARRED_NODES, name)
+                if isinstance(node, ast.Constant):
+                    self.assertNotIsInstance(node.value, (float, complex), name)
+            for string in strings(text):
+                self.assertNotIn("%", string, name)
+
+    def test_barred_words(self):
+        for name, text in sources().items():
+            words = names(text)
+            for string in strings(text):
+                words.extend(re.findall(r"\w+", string))
+            self.assertEqual(sorted(set(words) & set(BARRED)), [], name)
+            for part in ("dataclass", "overload", "contextmanager"):
+                self.assertNotIn(part, text, name)
+
+    def test_lists_are_sorted_without_their_own_method(self):
+        # A class of the package has an order: LANGUAGE.md bars .sort() beside one.
+        for name, text in sources().items():
+            self.assertNotIn(".sort(", text, name)
+
+
+if __name__ == "__main__":
+    unittest.main()
