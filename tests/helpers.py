@@ -1,8 +1,7 @@
 """What several tests need."""
 
-import copy
-
 from howmanyeach.manys import Many
+from howmanyeach.models import Model
 from howmanyeach.ratios import Ratio, Span
 
 # Many digits, so that a detour through floats would be seen.
@@ -16,18 +15,25 @@ def strange_values():
             (1, 2), {}, {"a": 1}, {1}, object(), int, Span(Ratio(1), True, None)]
 
 
+def copied(value):
+    """A copy of lists, tuples and dicts within each other, with the very same things in them."""
+    if isinstance(value, dict):
+        return {key: copied(value[key]) for key in value}
+    if isinstance(value, (list, tuple)):
+        return type(value)([copied(part) for part in value])
+    return value
+
+
 class Checks:
     """Checks to be mixed into a TestCase."""
 
     def raised(self, error, call, *values, **named):
         """Make a call that has to raise an error of just this class, and return the error."""
-        before = copy.deepcopy([values, named])
+        before = copied([values, named])
         with self.assertRaises(error) as caught:
             call(*values, **named)
         self.assertIs(type(caught.exception), error)
-        for old, new in zip(before[0], values):
-            if isinstance(new, (list, dict)):
-                self.assertEqual(old, new)
+        self.assertEqual(before, [values, named])
         return caught.exception
 
     def refused(self, error, value, call, *values, **named):
@@ -40,3 +46,14 @@ class Checks:
 def some_manys():
     """All Manys with numbers up to 4."""
     return [Many(least, most) for least in range(5) for most in [*range(least, 5), None]]
+
+
+def shop():
+    """The model of the document's examples."""
+    return Model(["order", "line", "bill"], {"has": ("order", Many(1, 6), "line", Many.just(1)),
+                                             "paid": ("order", Many.just(1), "bill", Many(2, 3))})
+
+
+def own_things():
+    """Objects of the package, each of another class."""
+    return [Many(1), Ratio(1), Span(Ratio(1), True, None), shop()]

@@ -10,6 +10,8 @@ PACKAGE = pathlib.Path(__file__).parent.parent / "howmanyeach"
 FUNCTIONS = {
     "values.py": {"is_integer": "value", "is_count": "value", "is_name": "value", "is_end": "value",
                   "other_end": "end"},
+    "texts.py": {"model_text": "model", "read_model": "text"},
+    "tables.py": {"totals": "near near_many far far_many"},
 }
 
 # For each file its classes, with the parameters of their methods.
@@ -31,6 +33,24 @@ CLASSES = {
         "Span": {"__init__": "self low is_had high", "low": "self", "is_had": "self", "high": "self",
                  "__contains__": "self value", "__eq__": "self other", "__str__": "self", "__repr__": "self"},
     },
+    "models.py": {
+        "Model": {"__init__": "self kinds links", "kinds": "self", "links": "self", "kind_at": "self link end",
+                  "many_at": "self link end", "__contains__": "self value", "__len__": "self",
+                  "__eq__": "self other", "__repr__": "self", "with_many": "self link end many",
+                  "without": "self *links", "only": "self *kinds", "turned": "self link", "__or__": "self other"},
+    },
+    "drafts.py": {
+        "Draft": {"__init__": "self model", "__setitem__": "self link ends", "__getitem__": "self link",
+                  "__iadd__": "self kind", "__isub__": "self kind", "drop": "self link", "made": "self",
+                  "copy": "self", "__contains__": "self value", "__len__": "self", "trying": "self",
+                  "tried_by": "self deed"},
+    },
+    "tables.py": {
+        "Table": {"__init__": "self near far total", "near": "self", "far": "self", "total": "self",
+                  "__call__": "self number", "number_of": "self near far", "__contains__": "self value",
+                  "degree": "self end row", "partner": "self end row place", "each_partner": "self end row",
+                  "__eq__": "self other", "__repr__": "self"},
+    },
 }
 
 
@@ -39,7 +59,16 @@ def defined_in(body, kind):
 
 
 def parameters(function):
-    return " ".join(parameter.arg for parameter in function.args.args)
+    told = function.args
+    words = [parameter.arg for parameter in told.args]
+    if told.vararg:
+        words.append("*" + told.vararg.arg)
+    elif told.kwonlyargs:
+        words.append("*")
+    words.extend(parameter.arg for parameter in told.kwonlyargs)
+    if told.kwarg:
+        words.append("**" + told.kwarg.arg)
+    return " ".join(words)
 
 
 class Interface(unittest.TestCase):

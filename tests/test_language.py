@@ -17,6 +17,13 @@ LIBRARY = {
 BARRED = ["typing", "typing_extensions", "enum", "Enum", "IntEnum", "StrEnum", "Flag", "IntFlag", "Generic", "Protocol",
           "ABC", "ABCMeta", "namedtuple", "NamedTuple", "TypedDict", "TYPE_CHECKING", "abstractmethod", "register",
           "mro", "elements", "open", "input", "law", "eval", "exec", "globals", "locals", "vars", "compile"]
+BUILTINS = ["len", "range", "enumerate", "zip", "min", "max", "sum", "abs", "sorted", "reversed", "int", "str", "bool",
+            "list", "tuple", "dict", "set", "isinstance", "ord", "repr", "any", "all", "divmod", "iter", "next", "map"]
+METHODS = ["append", "clear", "copy", "count", "endswith", "extend", "find", "get", "index", "insert", "isalnum",
+           "isalpha", "isdigit", "islower", "isspace", "isupper", "items", "join", "keys", "ljust", "lower", "lstrip",
+           "partition", "pop", "remove", "replace", "reverse", "rfind", "rjust", "rpartition", "rsplit", "rstrip",
+           "setdefault", "split", "splitlines", "startswith", "strip", "update", "upper", "values", "zfill",
+           "bit_length"]
 BARRED_NODES = (ast.AsyncFunctionDef, ast.AsyncFor, ast.AsyncWith, ast.Await, ast.Div, ast.Import)
 
 
@@ -105,6 +112,50 @@ class Code(unittest.TestCase):
             self.assertEqual(sorted(set(words) & set(BARRED)), [], name)
             for part in ("dataclass", "overload", "contextmanager"):
                 self.assertNotIn(part, text, name)
+
+    def test_calls_by_name(self):
+        own = set()
+        for text in sources().values():
+            own.update(node.name for node in nodes(text) if isinstance(node, (ast.FunctionDef, ast.ClassDef)))
+        for name, text in sources().items():
+            for node in nodes(text):
+                if isinstance(node, ast.Call) and isinstance(node.func, ast.Name):
+                    here = [*BUILTINS, *own, *sum(LIBRARY.values(), []), "TypeError", "deed", "cls"]
+                    self.assertIn(node.func.id, here, name)
+                if isinstance(node, ast.Call) and isinstance(node.func, ast.Attribute):
+                    self.assertIn(node.func.attr, [*METHODS, *own, "add"], name)
+
+    def test_any_and_all_take_lists(self):
+        for name, text in sources().items():
+            for node in nodes(text):
+                if isinstance(node, ast.GeneratorExp):
+                    self.fail(f"a generator expression in {name}, line {node.lineno}")
+
+    def test_operators_count_up_nothing(self):
+        # Classes of the package have in-place operators: += stands nowhere but at numbers.
+        for name, text in sources().items():
+            for node in nodes(text):
+                if isinstance(node, ast.AugAssign):
+                    self.assertIsInstance(node.value, ast.Constant, (name, node.lineno))
+
+    def test_double_underscores(self):
+        for name, text in sources().items():
+            for node in nodes(text):
+                if isinstance(node, (ast.Name, ast.Attribute)):
+                    word = node.id if isinstance(node, ast.Name) else node.attr
+                    self.assertFalse(word.startswith("__"), (name, node.lineno))
+                if isinstance(node, ast.ClassDef):
+                    methods = [part.name for part in node.body if isinstance(part, ast.FunctionDef)]
+                    if "__getitem__" in methods:
+                        self.assertIn("__iter__", methods, name)
+
+    def test_no_words_that_getitem_bars(self):
+        for name, text in sources().items():
+            for word in ("(type)", "Meta", "metaclass="):
+                self.assertNotIn(word, text, name)
+            for node in nodes(text):
+                if isinstance(node, ast.FunctionDef):
+                    self.assertNotEqual(node.name, "keys", name)
 
     def test_lists_are_sorted_without_their_own_method(self):
         # A class of the package has an order: LANGUAGE.md bars .sort() beside one.

@@ -1,0 +1,35 @@
+"""Checks of the parameters that many functions have."""
+
+from howmanyeach.errors import InvalidCount, InvalidEnd, InvalidModel, UnknownKind, UnknownLink
+from howmanyeach.models import Model
+from howmanyeach.values import is_count, is_end
+
+
+def check_model(model):
+    """Raise InvalidModel unless this is a Model."""
+    if not isinstance(model, Model):
+        raise InvalidModel(model)
+
+
+def check_kind(model, kind):
+    """Raise UnknownKind unless this is a kind of the model."""
+    if kind not in model:
+        raise UnknownKind(kind)
+
+
+def check_link(model, link):
+    """Raise UnknownLink unless this is a link of the model."""
+    if not model.has_link(link):
+        raise UnknownLink(link)
+
+
+def check_end(end):
+    """Raise InvalidEnd unless this is an end."""
+    if not is_end(end):
+        raise InvalidEnd(end)
+
+
+def check_count(count):
+    """Raise InvalidCount unless this is a COUNT."""
+    if not is_count(count):
+        raise InvalidCount(count)

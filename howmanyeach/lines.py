@@ -1,0 +1,22 @@
+"""The four lines of a link: what each asks of the sizes at its two ends."""
+
+LINES = (0, 1, 2, 3)
+
+
+def wrong_line(near, near_many, far, far_many):
+    """Return the first line that is not true for a near and a far size, None if all are."""
+    for line in LINES:
+        if not is_line_true(line, near, near_many, far, far_many):
+            return line
+    return None
+
+
+def is_line_true(line, near, near_many, far, far_many):
+    """Tell whether a line is true for a near and a far size."""
+    if line == 0:
+        return far_many.most is None or near * near_many.least <= far * far_many.most
+    if line == 1:
+        return near_many.most is None or far * far_many.least <= near * near_many.most
+    if line == 2:
+        return near == 0 or far >= near_many.least
+    return far == 0 or near >= far_many.least

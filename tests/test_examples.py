@@ -1,0 +1,55 @@
+"""The examples of the document, and those of README.md."""
+
+import contextlib
+import doctest
+import io
+import pathlib
+import re
+import unittest
+
+README = pathlib.Path(__file__).parent.parent / "README.md"
+
+DOCUMENT = """
+>>> from howmanyeach.manys import Many
+>>> from howmanyeach.ratios import Ratio
+>>> [str(Many(1, 6) & Many(2)), str(Many(1, 2) * Many(0)), str(3 * Many(1, 2)), 4 in Many(2)]
+['2..6', '0..*', '3..6', True]
+>>> Many.just(2).is_within(Many(1, 6))
+True
+>>> [Ratio(6, 4), Ratio(2, 3).is_below(Ratio(3, 4)), Ratio(2, 3).least_at(10), 2 * Ratio(1, 2) == Ratio(1)]
+[Ratio(3, 2), True, 7, True]
+>>> from howmanyeach.models import Model
+>>> from howmanyeach.texts import model_text
+>>> has, paid = ("order", Many(1, 6), "line", Many.just(1)), ("order", Many.just(1), "bill", Many(2, 3))
+>>> shop = Model(["order", "line", "bill"], {"has": has, "paid": paid})
+>>> model_text(shop).split("\\n")[3:5]
+['link has order 1..6 line 1', 'link paid order 1 bill 2..3']
+>>> from howmanyeach.tables import Table, totals
+>>> table = Table(4, 6, 10)
+>>> [table(0), table(9), table.degree("near", 1), table.degree("near", 2)]
+[(0, 0), (3, 3), 3, 2]
+>>> [list(table.each_partner("far", 1)), table.number_of(3, 0)]
+[[0, 2], None]
+>>> totals(4, Many(1, 6), 6, Many.just(1))
+(6, 6)
+"""
+
+
+class Examples(unittest.TestCase):
+    def test_the_document(self):
+        found = doctest.DocTestParser().get_doctest(DOCUMENT, {}, "DOC.md", None, 0)
+        self.assertGreater(len(found.examples), 5)
+        told = io.StringIO()
+        result = doctest.DocTestRunner().run(found, out=told.write)
+        self.assertEqual(result.failed, 0, told.getvalue())
+
+    def test_the_readme(self):
+        code = "\n".join(re.findall(r"```python\n(.*?)```", README.read_text(), re.DOTALL))
+        told = io.StringIO()
+        with contextlib.redirect_stdout(told):
+            exec(compile(code, "README.md", "exec"), {})
+        self.assertGreater(len(told.getvalue().splitlines()), 20)
+
+
+if __name__ == "__main__":
+    unittest.main()
