@@ -11,9 +11,9 @@ def check_model(model):
         raise InvalidModel(model)
 
 
-def check_kind(model, kind):
-    """Raise UnknownKind unless this is a kind of the model."""
-    if kind not in model:
+def check_kind(holder, kind):
+    """Raise UnknownKind unless this is a kind of the Model, or of the Sizes."""
+    if kind not in holder:
         raise UnknownKind(kind)
 
 
@@ -27,6 +27,13 @@ def check_end(end):
     """Raise InvalidEnd unless this is an end."""
     if not is_end(end):
         raise InvalidEnd(end)
+
+
+def check_place(model, link, end):
+    """Raise the error of the first of these three that is wrong."""
+    check_model(model)
+    check_link(model, link)
+    check_end(end)
 
 
 def check_count(count):

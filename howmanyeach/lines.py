@@ -3,6 +3,15 @@
 LINES = (0, 1, 2, 3)
 
 
+def gap_of(model, sizes):
+    """Return a tuple of the first link of the model, and its first line, that sizes do not keep, or None."""
+    for link, (near, near_many, far, far_many) in model.links().items():
+        line = wrong_line(sizes[near], near_many, sizes[far], far_many)
+        if line is not None:
+            return (link, line)
+    return None
+
+
 def wrong_line(near, near_many, far, far_many):
     """Return the first line that is not true for a near and a far size, None if all are."""
     for line in LINES:

@@ -120,12 +120,21 @@ def are_ends(value):
     return is_name(value[0]) and is_small(value[1]) and is_name(value[2]) and is_small(value[3])
 
 
+def have_same_shape(one, other):
+    """Tell whether two models have the same kinds and links, with the same kinds at the ends."""
+    return one.kinds() == other.kinds() and _joined_kinds(one) == _joined_kinds(other)
+
+
 def check_limits(kinds, links):
     """Raise TooMany unless a model can have so many kinds, and so many links."""
     if len(kinds) > Model.MOST_KINDS:
         raise TooMany("kinds", Model.MOST_KINDS)
     if len(links) > Model.MOST_LINKS:
         raise TooMany("links", Model.MOST_LINKS)
+
+
+def _joined_kinds(model):
+    return {link: (ends[0], ends[2]) for link, ends in model.links().items()}
 
 
 def _check_kinds(kinds):

@@ -27,7 +27,7 @@ def copied(value):
 class Checks:
     """Checks to be mixed into a TestCase."""
 
-    def raised(self, error, call, *values, **named):
+    def raised(self, error, call, /, *values, **named):
         """Make a call that has to raise an error of just this class, and return the error."""
         before = copied([values, named])
         with self.assertRaises(error) as caught:
@@ -36,7 +36,7 @@ class Checks:
         self.assertEqual(before, [values, named])
         return caught.exception
 
-    def refused(self, error, value, call, *values, **named):
+    def refused(self, error, value, call, /, *values, **named):
         """Make a call that has to raise an error of just this class with this value."""
         got = self.raised(error, call, *values, **named).value
         self.assertIs(type(got), type(value))

@@ -32,6 +32,17 @@ True
 [[0, 2], None]
 >>> totals(4, Many(1, 6), 6, Many.just(1))
 (6, 6)
+>>> from howmanyeach.databases import Database
+>>> Database.of_sizes(shop, {"order": 2, "line": 2, "bill": 1}).pairs("paid")
+[(0, 0), (1, 0)]
+>>> from howmanyeach.rings import empty_kinds, groups_of, ratio_of
+>>> [str(ratio_of(shop, "order", "line")), str(ratio_of(shop, "order", "bill")), str(ratio_of(shop, "bill", "line"))]
+['1..6', '1/3..1/2', '2..18']
+>>> empty_kinds(shop)
+[]
+>>> l, m = ("a", Many(2, 5), "b", Many(1, 2)), ("a", Many.just(1), "b", Many.just(1))
+>>> [groups_of(Model(["a", "b"], {"l": l, "m": m})), groups_of(shop)[:1]]
+[[(('a', 'b'), (1, 1))], [(('bill',), (1,))]]
 """
 
 

@@ -12,6 +12,13 @@ FUNCTIONS = {
                   "other_end": "end"},
     "texts.py": {"model_text": "model", "read_model": "text"},
     "tables.py": {"totals": "near near_many far far_many"},
+    "leads.py": {"steps_of": "model", "factor_of": "model link end", "is_broken": "model link end",
+                 "goal_of": "model kind way", "product_of": "model kind way", "is_way": "model kind goal value",
+                 "is_ring": "model kind value"},
+    "rings.py": {"is_full": "model kind", "empty_kinds": "model", "empty_paper": "model kind",
+                 "is_empty_paper": "model kind value", "ratio_of": "model kind other",
+                 "greatest_way": "model kind other", "is_stiff": "model link end", "stiff_ring": "model link end",
+                 "groups_of": "model"},
 }
 
 # For each file its classes, with the parameters of their methods.
@@ -50,6 +57,19 @@ CLASSES = {
                   "__call__": "self number", "number_of": "self near far", "__contains__": "self value",
                   "degree": "self end row", "partner": "self end row place", "each_partner": "self end row",
                   "__eq__": "self other", "__repr__": "self"},
+    },
+    "sizes.py": {
+        "Sizes": {"__init__": "self counts", "__getitem__": "self kind", "kinds": "self", "counts": "self",
+                  "__contains__": "self value", "__len__": "self", "__add__": "self other", "__and__": "self other",
+                  "__or__": "self other", "__mul__": "self times", "__rmul__": "self times",
+                  "is_within": "self other", "with_count": "self kind count", "__bool__": "self",
+                  "__eq__": "self other", "__repr__": "self", "of": "**counts"},
+    },
+    "databases.py": {
+        "Database": {"__init__": "self model sizes pairs", "model": "self", "sizes": "self", "pairs": "self link",
+                     "partners": "self link end row", "fault": "self", "keeps": "self", "keeps_of": "self model",
+                     "__add__": "self other", "__mul__": "self times", "__rmul__": "self times",
+                     "__eq__": "self other", "of_sizes": "cls model sizes * most"},
     },
 }
 

@@ -1,6 +1,7 @@
 """The rules of LANGUAGE.md that can be seen in the files of the package one by one."""
 
 import ast
+import builtins
 import pathlib
 import re
 import unittest
@@ -92,8 +93,10 @@ class Code(unittest.TestCase):
         if module in LIBRARY:
             return name in LIBRARY[module]
         package, _, file = module.partition(".")
-        defined = ast.parse(texts[file + ".py"]).body
-        return package == PACKAGE.name and name in [getattr(node, "name", None) for node in defined]
+        defined = []
+        for node in ast.parse(texts[file + ".py"]).body:
+            defined.append(node.targets[0].id if isinstance(node, ast.Assign) else getattr(node, "name", None))
+        return package == PACKAGE.name and name in defined
 
     def test_what_no_file_contains(self):
         for name, text in sources().items():
@@ -120,10 +123,32 @@ class Code(unittest.TestCase):
         for name, text in sources().items():
             for node in nodes(text):
                 if isinstance(node, ast.Call) and isinstance(node.func, ast.Name):
-                    here = [*BUILTINS, *own, *sum(LIBRARY.values(), []), "TypeError", "deed", "cls"]
+                    here = [*BUILTINS, *own, *sum(LIBRARY.values(), []), "TypeError", "deed", "cls", "table"]
                     self.assertIn(node.func.id, here, name)
                 if isinstance(node, ast.Call) and isinstance(node.func, ast.Attribute):
                     self.assertIn(node.func.attr, [*METHODS, *own, "add"], name)
+
+    def test_local_names(self):
+        for name, text in sources().items():
+            # Doctest leaves a _ there.
+            taken = [word for word in dir(builtins) if word != "_"]
+            for node in nodes(text):
+                if isinstance(node, ast.ClassDef):
+                    taken.append(node.name)
+                if isinstance(node, ast.ImportFrom):
+                    taken.extend(imported.name for imported in node.names)
+            for node in nodes(text):
+                if isinstance(node, ast.arg):
+                    self.assertNotIn(node.arg, taken, (name, node.lineno))
+                if isinstance(node, ast.Name) and isinstance(node.ctx, ast.Store):
+                    self.assertNotIn(node.id, taken, (name, node.lineno))
+
+    def test_each_import_is_used(self):
+        for name, text in sources().items():
+            used = [node.id for node in nodes(text) if isinstance(node, ast.Name)]
+            for node in nodes(text):
+                if isinstance(node, ast.ImportFrom):
+                    self.assertEqual([told.name for told in node.names if told.name not in used], [], name)
 
     def test_any_and_all_take_lists(self):
         for name, text in sources().items():
