@@ -141,6 +141,24 @@ class Papers(unittest.TestCase):
                 self.check(kind, (value, ("k", "near")), value in ([], ()) and kind == "a")
                 self.check(kind, ([], value), False)
 
+    def test_rings_from_each_kind_on_them(self):
+        model = Model(["a", "b", "c"], {"l": ("a", Many(3), "b", Many(0, 2)), "m": ("b", ONE, "a", Many(0, 1)),
+                                        "n": ("c", ONE, "b", Many(0))})
+        there, back, to = ("l", "near"), ("m", "near"), ("n", "near")
+        for kind, way, ring, is_it in (("a", [], [there, back], True), ("b", [], [back, there], True),
+                                       ("a", [there], [back, there], True), ("b", [back], [there, back], True),
+                                       ("a", [], [there, back] * 2, True), ("a", [there, back], [there, back], True),
+                                       ("c", [to], [back, there], True), ("c", [to, back], [there, back], True),
+                                       ("a", [], [back, there], False), ("b", [], [there, back], False),
+                                       ("c", [to], [there, back], False), ("c", [], [to, back, there], False),
+                                       ("a", [], [there, back, there], False), ("a", [], [there], False)):
+            self.assertIs(is_empty_paper(model, kind, (way, ring)), is_it)
+            self.assertIs(is_empty_paper(model, kind, (tuple(way), tuple(ring))), is_it)
+        self.assertEqual(empty_kinds(model), ["a", "b", "c"])
+        model = model.with_many("l", "near", Many(2))
+        self.assertIs(is_empty_paper(model, "a", ([], [there, back])), False)
+        self.assertEqual(empty_kinds(model), [])
+
     def test_full_kinds(self):
         for value in (([], [("has", "near"), ("has", "far")]), ([], ("has", "near")), ([("has", "near")], [])):
             self.assertIs(is_empty_paper(shop(), "order", value), False)
