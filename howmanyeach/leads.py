@@ -3,14 +3,13 @@
 from howmanyeach.checks import check_kind, check_model, check_place
 from howmanyeach.errors import InvalidWay
 from howmanyeach.ratios import Ratio
-from howmanyeach.values import ENDS, is_end, other_end
+from howmanyeach.values import is_end, other_end
 
 
 def steps_of(model):
     """Return the sorted list of the steps (link, end) of a model, broken ones too."""
     check_model(model)
-    places = [(link, end) for link in model.links() for end in sorted(ENDS)]
-    return [place for place in places if is_step(model, place)]
+    return list(parts_of_steps(model))
 
 
 def factor_of(model, link, end):
@@ -41,10 +40,12 @@ def goal_of(model, kind, way):
 def product_of(model, kind, way):
     """Return the product of a way from the kind."""
     goal_of(model, kind, way)
-    product = Ratio(1)
-    for link, end in way:
-        product = product * weight_of(model, link, end)
-    return product
+    steps = parts_of_steps(model)
+    top = bottom = 1
+    for step in way:
+        factor_top, factor_bottom = parts_of_factor(steps[step])
+        top, bottom = top * factor_top, bottom * factor_bottom
+    return Ratio(top, bottom)
 
 
 def is_way(model, kind, goal, value):
@@ -67,21 +68,39 @@ def is_step(model, value):
     return model.many_at(value[0], value[1]).least > 0
 
 
-def weight_of(model, link, end):
-    """Return what a step counts in a product: its factor, 0 if it has none."""
-    factor = factor_of(model, link, end)
-    return Ratio(0) if factor is None else factor
+def parts_of_steps(model):
+    """Return a dict from all steps, sorted, to tuples (kind, goal, least, most).
+
+    The least number is that at this end, the most one that at the other end.
+    """
+    found = {}
+    for link, (near, near_many, far, far_many) in model.links().items():
+        if far_many.least:
+            found[(link, "far")] = (far, near, far_many.least, near_many.most)
+        if near_many.least:
+            found[(link, "near")] = (near, far, near_many.least, far_many.most)
+    return found
+
+
+def parts_of_factor(parts):
+    """Return a tuple (top, bottom) of what a step with these parts, not broken, counts in a product."""
+    least, most = parts[2:]
+    return (0, 1) if most is None else (least, most)
 
 
 def goal_by(model, kind, value):
     """Return the kind to which any value leads as a way from the kind, None if it is no such way."""
     if not isinstance(value, (list, tuple)):
         return None
+    steps = parts_of_steps(model)
     goal = kind
     for step in value:
-        if not is_step(model, step) or is_broken(model, step[0], step[1]) or model.kind_at(step[0], step[1]) != goal:
+        if not is_step(model, step):
             return None
-        goal = model.kind_at(step[0], other_end(step[1]))
+        start, beyond, _, most = steps[step]
+        if start != goal or most == 0:
+            return None
+        goal = beyond
     return goal
 
 

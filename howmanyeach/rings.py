@@ -62,7 +62,7 @@ def ratio_of(model, kind, other):
 def greatest_way(model, kind, other):
     """Return a way from the kind to the other one with the greatest product, None if there is no way."""
     ways = _roads_between(model, kind, other).best[kind]
-    return ways[other][1] if other in ways else None
+    return ways[other][2] if other in ways else None
 
 
 def is_stiff(model, link, end):
@@ -73,11 +73,7 @@ def is_stiff(model, link, end):
 def stiff_ring(model, link, end):
     """Return a ring with the product 1 that begins with the step from this end, None if it is not stiff."""
     check_place(model, link, end)
-    roads = Roads(model)
-    if (link, end) not in roads.leads or roads.paper_for(model.kind_at(link, end)) is not None:
-        return None
-    product, ring = roads.ring_by((link, end))
-    return ring if product == Ratio(1) else None
+    return Roads(model).stiff_ring_by((link, end))
 
 
 def groups_of(model):
