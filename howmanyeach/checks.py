@@ -1,7 +1,7 @@
 """Checks of the parameters that many functions have."""
 
-from howmanyeach.errors import InvalidCount, InvalidEnd, InvalidModel, UnknownKind, UnknownLink
-from howmanyeach.models import Model
+from howmanyeach.errors import Apart, InvalidCount, InvalidEnd, InvalidModel, UnknownKind, UnknownLink
+from howmanyeach.models import Model, have_same_shape
 from howmanyeach.values import is_count, is_end
 
 
@@ -9,6 +9,14 @@ def check_model(model):
     """Raise InvalidModel unless this is a Model."""
     if not isinstance(model, Model):
         raise InvalidModel(model)
+
+
+def check_comparable(one, other):
+    """Raise the error of the first of two models that is none, or Apart if they are not comparable."""
+    check_model(one)
+    check_model(other)
+    if not have_same_shape(one, other):
+        raise Apart(one, other)
 
 
 def check_kind(holder, kind):

@@ -1,8 +1,8 @@
 """Databases of a model: rows by number, and pairs of them."""
 
 from howmanyeach.checks import check_end, check_link, check_model
-from howmanyeach.errors import Apart, InvalidDatabase, InvalidPairs, InvalidRow, NotLet, TooMany
-from howmanyeach.lines import gap_of
+from howmanyeach.errors import Apart, InvalidDatabase, InvalidPairs, InvalidRow, TooMany
+from howmanyeach.lines import check_let
 from howmanyeach.models import have_same_shape
 from howmanyeach.sizes import sizes_for
 from howmanyeach.tables import Table, totals
@@ -28,9 +28,7 @@ class Database:
         """Return a database with these sizes that keeps the model, with the fewest, or the most, pairs."""
         check_model(model)
         told = sizes_for(model, sizes)
-        gap = gap_of(model, told)
-        if gap is not None:
-            raise NotLet(gap[0], gap[1])
+        check_let(model, told)
         _check_rows(told)
         return cls(model, told, {link: _pairs_of(ends, told, most) for link, ends in model.links().items()})
 

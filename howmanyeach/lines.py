@@ -1,6 +1,15 @@
 """The four lines of a link: what each asks of the sizes at its two ends."""
 
+from howmanyeach.errors import NotLet
+
 LINES = (0, 1, 2, 3)
+
+
+def check_let(model, sizes):
+    """Raise NotLet unless sizes keep all lines of the model."""
+    gap = gap_of(model, sizes)
+    if gap is not None:
+        raise NotLet(gap[0], gap[1])
 
 
 def gap_of(model, sizes):
@@ -29,3 +38,15 @@ def is_line_true(line, near, near_many, far, far_many):
     if line == 2:
         return near == 0 or far >= near_many.least
     return far == 0 or near >= far_many.least
+
+
+def spared_by(line, near, near_many, far, far_many):
+    """Return the greatest size of the one that asks with which a line that is not true becomes true.
+
+    This is the near size for the lines 0 and 2, the far one for 1 and 3.
+    """
+    if line == 0:
+        return far * far_many.most // near_many.least
+    if line == 1:
+        return near * near_many.most // far_many.least
+    return 0

@@ -1,8 +1,10 @@
 """What several tests need."""
 
+from howmanyeach.errors import Empty, EmptyBy
 from howmanyeach.manys import Many
 from howmanyeach.models import Model
 from howmanyeach.ratios import Ratio, Span
+from howmanyeach.sizes import Sizes
 
 # Many digits, so that a detour through floats would be seen.
 SIXTY = 10 ** 59 + 7
@@ -43,6 +45,15 @@ class Checks:
         self.assertTrue(got is value or got == value, (got, value))
 
 
+    def empty(self, kind, is_paper, call, /, *values, **named):
+        """Make a call that has to raise Empty for this kind, with a right paper, from EmptyBy with the same one."""
+        error = self.raised(Empty, call, *values, **named)
+        self.assertEqual(error.kind, kind)
+        self.assertTrue(is_paper(error.paper), error.paper)
+        self.assertIs(type(error.__cause__), EmptyBy)
+        self.assertEqual(error.__cause__.paper, error.paper)
+
+
 def some_manys():
     """All Manys with numbers up to 4."""
     return [Many(least, most) for least in range(5) for most in [*range(least, 5), None]]
@@ -57,3 +68,12 @@ def shop():
 def own_things():
     """Objects of the package, each of another class."""
     return [Many(1), Ratio(1), Span(Ratio(1), True, None), shop()]
+
+
+def wrong_sizes(kinds):
+    """Values that are no sizes of these kinds."""
+    right = {kind: 1 for kind in kinds}
+    wrong = [{**right, "z": 1}, {kind: 1 for kind in kinds[1:]}, {**right, kinds[0]: True}, {**right, kinds[-1]: -1},
+             {**right, 5: 1}, list(kinds), tuple(kinds), {kind: "1" for kind in kinds}, {**right, kinds[0]: None},
+             {**right, (): 1}, Sizes({**right, "z": 1})]
+    return wrong + strange_values() + own_things()
