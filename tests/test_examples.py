@@ -43,6 +43,26 @@ True
 >>> l, m = ("a", Many(2, 5), "b", Many(1, 2)), ("a", Many.just(1), "b", Many.just(1))
 >>> [groups_of(Model(["a", "b"], {"l": l, "m": m})), groups_of(shop)[:1]]
 [[(('a', 'b'), (1, 1))], [(('bill',), (1,))]]
+>>> from howmanyeach.bounding import first_gap, greatest_sizes, least_sizes, raises_for
+>>> least_sizes(shop, {"order": 10, "line": 0, "bill": 0})
+Sizes({'bill': 4, 'line': 10, 'order': 10})
+>>> raises_for(shop, {"order": 1, "line": 0, "bill": 0})
+[('has', 0, 1), ('paid', 0, 1), ('paid', 1, 2), ('has', 0, 2)]
+>>> [first_gap(shop, {"order": 1, "line": 6, "bill": 1}), greatest_sizes(shop, {"order": 9, "line": 3, "bill": 9})]
+[('paid', 1), Sizes({'bill': 1, 'line': 3, 'order': 3})]
+>>> from howmanyeach.normal import idle_numbers, occurring
+>>> from howmanyeach.parting import least_with, parting_of
+>>> pairs = Model(["a", "b"], {"l": l, "m": m})
+>>> [str(occurring(pairs, "l", "near")), str(occurring(pairs, "l", "far")), idle_numbers(pairs)[:2]]
+['2', '2', [('l', 'far', 'least'), ('l', 'near', 'most')]]
+>>> [least_with(shop, "paid", "far", 3), parting_of(shop, shop.with_many("has", "near", Many(1, 4)))]
+[Sizes({'bill': 1, 'line': 3, 'order': 3}), ('has', 'near', 5, Sizes({'bill': 1, 'line': 6, 'order': 2}))]
+>>> from howmanyeach.numbers import gaps_of, is_size, many_below, size_at, sizes_from
+>>> fives = Model(["a", "b"], {"l": ("a", Many.just(1), "b", Many(5, 6))})
+>>> [gaps_of(fives, "a")[-3:], list(sizes_from(fives, "a", 1, many=5)), is_size(fives, "a", 10 ** 40)]
+[[13, 14, 19], [5, 6, 10, 11, 12], True]
+>>> [many_below(fives, "a", 20), size_at(fives, "a", 7)]
+[10, 16]
 """
 
 

@@ -19,6 +19,17 @@ FUNCTIONS = {
                  "is_empty_paper": "model kind value", "ratio_of": "model kind other",
                  "greatest_way": "model kind other", "is_stiff": "model link end", "stiff_ring": "model link end",
                  "groups_of": "model"},
+    "bounding.py": {"is_let": "model sizes", "first_gap": "model sizes", "totals_of": "model sizes",
+                    "least_sizes": "model sizes", "raises_for": "model sizes",
+                    "raise_paper": "model sizes kind number", "is_raise_paper": "model sizes kind number value",
+                    "greatest_sizes": "model room", "lowerings_for": "model room"},
+    "normal.py": {"occurring": "model link end", "normal_form": "model", "are_comparable": "one other",
+                  "are_alike": "one other", "is_below": "one other", "idle_numbers": "model", "join_of": "one other"},
+    "parting.py": {"can_have_row": "model sizes link end number", "least_with": "model link end number",
+                   "parting_of": "one other"},
+    "numbers.py": {"unit_of": "model kind", "is_size": "model kind number", "size_from": "model kind number",
+                   "gaps_of": "model kind", "sizes_from": "model kind number * many",
+                   "many_below": "model kind number", "size_at": "model kind place"},
 }
 
 # For each file its classes, with the parameters of their methods.
