@@ -85,10 +85,22 @@ class Sizes:
 
 def sizes_for(model, sizes):
     """Return the Sizes that a Sizes, or a dict, tells for exactly the kinds of a model."""
-    told = sizes if isinstance(sizes, Sizes) else Sizes(sizes)
+    told = sizes_by(sizes)
     if told.kinds() != model.kinds():
         raise InvalidSizes(sizes)
     return told
+
+
+def are_sizes_of(model, value):
+    """Tell whether any value is a Sizes, or a dict, of exactly the kinds of a model."""
+    if not isinstance(value, Sizes) and not _are_counts(value):
+        return False
+    return sizes_by(value).kinds() == model.kinds()
+
+
+def sizes_by(value):
+    """Return a Sizes itself, and a dict as a Sizes."""
+    return value if isinstance(value, Sizes) else Sizes(value)
 
 
 def _are_counts(value):

@@ -30,6 +30,11 @@ FUNCTIONS = {
     "numbers.py": {"unit_of": "model kind", "is_size": "model kind number", "size_from": "model kind number",
                    "gaps_of": "model kind", "sizes_from": "model kind number * many",
                    "many_below": "model kind number", "size_at": "model kind place"},
+    "completing.py": {"obstacle_of": "told", "is_obstacle": "told value", "can_complete": "told",
+                      "least_completion": "told", "lacks_of": "told", "fits_sizes": "told sizes",
+                      "cut_of": "told sizes link end", "is_cut": "told sizes link end value", "completion": "told",
+                      "is_completion": "told value", "extra_pairs": "told"},
+    "claims.py": {"is_claim": "value", "certificate_of": "claim", "is_certificate": "claim value"},
 }
 
 # For each file its classes, with the parameters of their methods.
@@ -81,6 +86,17 @@ CLASSES = {
                      "partners": "self link end row", "fault": "self", "keeps": "self", "keeps_of": "self model",
                      "__add__": "self other", "__mul__": "self times", "__rmul__": "self times",
                      "__eq__": "self other", "of_sizes": "cls model sizes * most"},
+    },
+    "told.py": {
+        "Told": {"__init__": "self model", "model": "self", "__iadd__": "self row", "__isub__": "self row",
+                 "__setitem__": "self link pairs", "__getitem__": "self link", "rows": "self kind",
+                 "degree": "self link end name", "__contains__": "self value", "__len__": "self",
+                 "set_wished": "self sizes", "copy": "self", "trying": "self", "tried_by": "self deed"},
+    },
+    "desk.py": {
+        "Desk": {"__init__": "self", "do": "self command", "do_all": "self *commands", "undo": "self",
+                 "names": "self", "model_named": "self name", "told_named": "self name", "log": "self",
+                 "trial": "self", "tried_by": "self deed", "__len__": "self", "__contains__": "self value"},
     },
 }
 

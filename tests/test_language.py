@@ -25,6 +25,8 @@ METHODS = ["append", "clear", "copy", "count", "endswith", "extend", "find", "ge
            "partition", "pop", "remove", "replace", "reverse", "rfind", "rjust", "rpartition", "rsplit", "rstrip",
            "setdefault", "split", "splitlines", "startswith", "strip", "update", "upper", "values", "zfill",
            "bit_length"]
+# Local variables that are assigned a function from a table at module level.
+FROM_TABLES = ["check", "certify", "judge", "change", "ask"]
 BARRED_NODES = (ast.AsyncFunctionDef, ast.AsyncFor, ast.AsyncWith, ast.Await, ast.Div, ast.Import)
 
 
@@ -123,7 +125,8 @@ class Code(unittest.TestCase):
         for name, text in sources().items():
             for node in nodes(text):
                 if isinstance(node, ast.Call) and isinstance(node.func, ast.Name):
-                    here = [*BUILTINS, *own, *sum(LIBRARY.values(), []), "TypeError", "deed", "cls", "table"]
+                    here = [*BUILTINS, *own, *sum(LIBRARY.values(), []), "TypeError", "deed", "cls", "table",
+                            *FROM_TABLES]
                     self.assertIn(node.func.id, here, name)
                 if isinstance(node, ast.Call) and isinstance(node.func, ast.Attribute):
                     self.assertIn(node.func.attr, [*METHODS, *own, "add"], name)
