@@ -198,7 +198,7 @@ class ExtraPairs(Checks, unittest.TestCase):
 
     def test_all_sets_of_pairs(self):
         found = []
-        for told in some_tolds(900, 96):
+        for told in some_tolds(1500, 96):
             empty = [kind for kind in told.model.kinds() if told.rows(kind) and not oracle.is_full(told.model, kind)]
             if empty:
                 self.empty(empty[0], lambda paper: is_paper(told.model, empty[0], paper), extra_pairs, told)
@@ -208,7 +208,7 @@ class ExtraPairs(Checks, unittest.TestCase):
                 self.check(told, number)
                 found.append(number)
         for number in (0, 1, 2):
-            self.assertGreater(found.count(number), 5)
+            self.assertGreater(found.count(number), 3)
 
     def test_more_pairs(self):
         """Each link by all sets of its pairs, with the most numbers of the normal form."""

@@ -63,6 +63,26 @@ Sizes({'bill': 4, 'line': 10, 'order': 10})
 [[13, 14, 19], [5, 6, 10, 11, 12], True]
 >>> [many_below(fives, "a", 20), size_at(fives, "a", 7)]
 [10, 16]
+>>> from howmanyeach.completing import can_complete, lacks_of, least_completion, obstacle_of
+>>> from howmanyeach.told import Told
+>>> told = Told(shop)
+>>> told += ("order", "mine")
+>>> told += ("line", "x")
+>>> told["has"] = [("mine", "x")]
+>>> [least_completion(told), lacks_of(told), can_complete(told)]
+[Sizes({'bill': 1, 'line': 2, 'order': 2}), {'bill': 1, 'line': 1, 'order': 1}, True]
+>>> told += ("order", "yours")
+>>> told["has"] = [("mine", "x"), ("yours", "x")]
+>>> obstacle_of(told)
+('past', 'has', 'far', 'x')
+>>> from howmanyeach.desk import Desk
+>>> desk = Desk()
+>>> desk.do("model m kind a | kind b | link l a 1 b 5..6")
+'done'
+>>> [desk.do("least m a=7"), desk.do("ratio m a b"), desk.do("sizes m a 19")]
+['a=10 b=2', '1/6 1/5', 'no']
+>>> desk.do_all("told t m", "row t a x", "lacks t")
+['done', 'done', 'a=4 b=1']
 """
 
 
