@@ -124,6 +124,10 @@ class Completions(Checks, unittest.TestCase):
         self.judge(told, Database.of_sizes(shop(), {"bill": 3, "line": 9, "order": 7}), True)
         self.judge(told, Database(shop(), zeros(shop())), False)
         self.judge(told_with(shop(), {}), Database(shop(), zeros(shop())), True)
+        # Rows without pairs have to be there, too.
+        self.judge(told_with(shop(), {"order": "m"}), Database(shop(), zeros(shop())), False)
+        self.judge(told_with(shop(), {"order": "mno"}), Database.of_sizes(shop(), {"bill": 1, "line": 2, "order": 2}), False)
+        self.judge(told_with(shop(), {"order": "mn"}), Database.of_sizes(shop(), {"bill": 1, "line": 2, "order": 2}), True)
         told += ("bill", "b")
         told["paid"] = [("m", "b")]
         self.judge(told, Database.of_sizes(shop(), {"bill": 3, "line": 9, "order": 7}), True)

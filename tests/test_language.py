@@ -185,6 +185,29 @@ class Code(unittest.TestCase):
                 if isinstance(node, ast.FunctionDef):
                     self.assertNotEqual(node.name, "keys", name)
 
+    def test_no_name_is_a_method_and_an_attribute(self):
+        methods, attributes, properties, read = set(), set(), set(), set()
+        for text in sources().values():
+            for node in nodes(text):
+                if isinstance(node, ast.ClassDef):
+                    for part in [part for part in node.body if isinstance(part, ast.FunctionDef)]:
+                        of = [ast.unparse(decorator) for decorator in part.decorator_list]
+                        (properties if "property" in of or f"{part.name}.setter" in of else methods).add(part.name)
+                    attributes.update(target.id for part in node.body if isinstance(part, ast.Assign)
+                                      for target in part.targets)
+                if isinstance(node, ast.Attribute):
+                    (attributes if isinstance(node.ctx, ast.Store) else read).add(node.attr)
+        # A property with a setter is assigned, but nowhere in the package itself.
+        self.assertEqual([methods & attributes, methods & properties, properties & attributes], [set()] * 3)
+        self.assertEqual(read - methods - attributes - properties - set(METHODS), {"setter"})
+
+    def test_tables_of_functions(self):
+        """A function from a table at module level has a name of its own ahead of its call."""
+        for name, text in sources().items():
+            for node in nodes(text):
+                if isinstance(node, ast.Call):
+                    self.assertNotIsInstance(node.func, (ast.Subscript, ast.Call, ast.IfExp), name)
+
     def test_lists_are_sorted_without_their_own_method(self):
         # A class of the package has an order: LANGUAGE.md bars .sort() beside one.
         for name, text in sources().items():
